@@ -1,0 +1,1 @@
+"""Threereckons: worths of trees, reckoned three ways."""
