@@ -31,6 +31,15 @@ BARRED_NODES = (
     ast.Global, ast.AsyncFunctionDef, ast.AsyncFor, ast.AsyncWith, ast.Await, ast.Import, ast.Div, ast.MatMult,
 )
 
+# Of L25; sort isn't, as Grammar has __eq__ and __len__.
+METHODS = """
+append clear copy count endswith extend find get index insert isalnum isalpha isdigit islower isspace isupper items
+join keys ljust lower lstrip partition pop remove replace reverse rfind rjust rpartition rsplit rstrip setdefault split
+splitlines startswith strip update upper values zfill bit_length
+""".split()
+
+DOUBLES = ["__init__", "__eq__", "__repr__", "__str__", "__len__", "__enter__", "__exit__", "__call__", "__iter__"]
+
 
 def sources():
     return [(path.name, path.read_bytes()) for path in sorted(PACKAGE.glob("*.py"))]
@@ -113,6 +122,107 @@ class Code(unittest.TestCase):
             if isinstance(node.ctx, ast.Store):
                 attributes.add(node.attr)
         self.assertEqual(sorted(methods & attributes), [])
+
+    def test_attributes(self):
+        """Each that is read is a method of L25, or an own method or attribute."""
+        own = set(METHODS + DOUBLES)
+        for name, node in nodes(ast.ClassDef):
+            own |= {row.name for row in node.body if isinstance(row, ast.FunctionDef)}
+        own |= {node.attr for name, node in nodes(ast.Attribute) if isinstance(node.ctx, ast.Store)}
+        for name, node in nodes(ast.Attribute):
+            self.assertIn(node.attr, own, (name, node.lineno))
+
+    def test_methods_are_called_where_they_stand(self):
+        methods = set(METHODS)
+        for name, node in nodes(ast.ClassDef):
+            methods |= {row.name for row in node.body if isinstance(row, ast.FunctionDef)}
+        for name, tree in trees():
+            called = [node.func for node in ast.walk(tree) if isinstance(node, ast.Call)]
+            for node in ast.walk(tree):
+                if isinstance(node, ast.Attribute) and node.attr in methods:
+                    self.assertIn(node, called, (name, node.lineno))
+
+    def test_double_underscores(self):
+        for name, node in nodes(ast.ClassDef):
+            for row in node.body:
+                if isinstance(row, ast.FunctionDef) and row.name.startswith("__"):
+                    self.assertIn(row.name, DOUBLES, name)
+                    if row.name in ("__eq__", "__repr__", "__str__", "__len__"):
+                        self.assertIsInstance(row.body[-1], ast.Return, name)
+                        barred = (ast.Assign, ast.AugAssign, ast.AnnAssign, ast.Delete, ast.NamedExpr)
+                        self.assertEqual([each for each in ast.walk(row) if isinstance(each, barred)], [], name)
+
+    def test_no_generators(self):
+        """Narrower than L7 and L23, which bar them where a class has __eq__ in most places."""
+        self.assertEqual(nodes(ast.GeneratorExp, ast.Yield, ast.YieldFrom), [])
+
+    def test_is(self):
+        for name, node in nodes(ast.Compare):
+            for op, side in zip(node.ops, node.comparators):
+                if isinstance(op, (ast.Is, ast.IsNot)):
+                    self.assertIsInstance(side, ast.Constant, (name, node.lineno))
+                    self.assertIn(side.value, (None, True, False), (name, node.lineno))
+
+    def test_sets(self):
+        """Narrower than L24: sets are written only in sorted(..) and len(..), or behind in."""
+        for name, tree in trees():
+            allowed = []
+            for node in ast.walk(tree):
+                if isinstance(node, ast.Call) and isinstance(node.func, ast.Name) and node.func.id in ("sorted", "len"):
+                    allowed += node.args
+                if isinstance(node, ast.Compare) and isinstance(node.ops[0], (ast.In, ast.NotIn)):
+                    allowed += node.comparators
+            for node in ast.walk(tree):
+                made = isinstance(node, ast.Call) and isinstance(node.func, ast.Name) and node.func.id == "set"
+                if made or isinstance(node, (ast.Set, ast.SetComp)):
+                    self.assertIn(node, allowed, (name, node.lineno))
+
+    def test_errors(self):
+        errors = {node.name for name, node in nodes(ast.ClassDef) if name == "errors.py"}
+        for name, node in nodes(ast.Raise):
+            if node.exc is not None:
+                self.assertIsInstance(node.exc, ast.Call, (name, node.lineno))
+                self.assertIn(node.exc.func.id, errors, (name, node.lineno))
+        for name, node in nodes(ast.ExceptHandler):
+            self.assertIn(node.type.id, errors, (name, node.lineno))
+
+    def test_locals(self):
+        for name, tree in trees():
+            taken = set(dir(builtins))
+            for node in tree.body:
+                if isinstance(node, ast.ImportFrom):
+                    taken |= {each.asname or each.name for each in node.names}
+                if isinstance(node, ast.ClassDef):
+                    taken.add(node.name)
+            for node in ast.walk(tree):
+                if isinstance(node, ast.arg):
+                    self.assertNotIn(node.arg, taken, (name, node.lineno))
+                if isinstance(node, ast.Name) and isinstance(node.ctx, ast.Store):
+                    self.assertNotIn(node.id, taken, (name, node.lineno))
+
+    def test_imports_name_the_file_and_are_used(self):
+        defined = {}
+        for name, tree in trees():
+            found = {row.name for row in tree.body if isinstance(row, (ast.FunctionDef, ast.ClassDef))}
+            found |= {row.targets[0].id for row in tree.body if isinstance(row, ast.Assign)}
+            defined[name] = found
+        for name, tree in trees():
+            used = {node.id for node in ast.walk(tree) if isinstance(node, ast.Name)}
+            for node in ast.walk(tree):
+                if isinstance(node, ast.ImportFrom) and node.module != "__future__":
+                    for each in node.names:
+                        self.assertIn(each.name, defined[node.module.split(".")[1] + ".py"], name)
+                        self.assertIn(each.name, used, name)
+
+    def test_no_rings_of_imports(self):
+        above = {}
+        for name, tree in trees():
+            found = [node.module.split(".")[1] + ".py" for node in tree.body if isinstance(node, ast.ImportFrom)]
+            above[name] = set(found)
+        for step in above:
+            for name in above:
+                above[name] = above[name].union(*[above[other] for other in above[name]])
+        self.assertEqual([name for name in above if name in above[name]], [])
 
     def test_module_level(self):
         allowed = (ast.Expr, ast.ImportFrom, ast.FunctionDef, ast.ClassDef, ast.Assign, ast.AnnAssign)

@@ -1,8 +1,7 @@
 """The ops: single reckonings over worths."""
 
 from threereckons.errors import NoOp, NotLet
-
-BOUND = 10 ** 6
+from threereckons.limits import BOUND
 
 PARTS = {
     "copy": 1,
