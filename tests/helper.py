@@ -72,7 +72,21 @@ def number_by_chance(rng):
     return rng.choice([0, 1, 2, 3, 9, 10, 77, 1000, TOP, rng.randrange(10 ** 6)])
 
 
-def rules_by_chance(rng, sorts, makings, cap, share):
+def rank(term):
+    """Rules of which each needs only what is of a lesser rank make no rings."""
+    if term[0] == "kept":
+        return (0.5, term[1])
+    if term[0] == "at":
+        return (term[1] if term[1] else 9, "")
+    return (0, "")
+
+
+def ringless(target, terms):
+    downs = [term for term in terms if term[0] == "at" and term[1] == 0]
+    return downs + [term for term in terms if term not in downs and rank(term) < rank(target)]
+
+
+def rules_by_chance(rng, sorts, makings, cap, share, calm):
     worths = {sort: downs + ups for sort, downs, ups in sorts}
     rules = []
     for making, sort, parts in makings:
@@ -82,16 +96,18 @@ def rules_by_chance(rng, sorts, makings, cap, share):
         for target in targets(sorts, makings, making, kept):
             if rng.random() < share:
                 op = rng.choice(LET if cap else list(PARTS))
-                chosen = [rng.choice([rng.choice(terms), ("number", number_by_chance(rng)), rng.choice(terms)])
+                fitting = ringless(target, terms) if calm else terms
+                chosen = [rng.choice([rng.choice(fitting), ("number", number_by_chance(rng)), rng.choice(fitting)])
                           for step in range(PARTS[op])]
                 rules.append((making, target, op, tuple(chosen)))
     return rules
 
 
-def rows_by_chance(rng, *, many_sorts=None, many_makings=None, cap=None, share=None):
+def rows_by_chance(rng, *, many_sorts=None, many_makings=None, cap=None, share=None, calm=None):
     """(sorts, makings, rules, cap) of a grammar; the first makings have no parts, so most sorts have trees."""
     cap = rng.choice([0, 0, 0, 1, 4, 9]) if cap is None else cap
     share = rng.choice([1, 1, 0.9, 0.6]) if share is None else share
+    calm = rng.random() < 0.4 if calm is None else calm
     sorts = []
     for name in rng.sample(WORDS, rng.randint(1, 4) if many_sorts is None else many_sorts):
         worths = rng.sample(WORDS, 4)
@@ -104,7 +120,7 @@ def rows_by_chance(rng, *, many_sorts=None, many_makings=None, cap=None, share=N
             sort = names[at] if at < len(names) and rng.random() < 0.9 else rng.choice(names)
             parts = rng.choices(names, k=0 if at < len(names) and rng.random() < 0.7 else rng.choice([0, 1, 2, 2]))
             makings.append((making, sort, tuple(parts)))
-    rules = rules_by_chance(rng, sorts, makings, cap, share)
+    rules = rules_by_chance(rng, sorts, makings, cap, share, calm)
     for rows in (sorts, makings, rules):
         rng.shuffle(rows)
     return sorts, makings, rules, cap
@@ -341,3 +357,78 @@ def first_bad(sorts, makings, rules, cap):
             # What stands behind a row mends nothing, so the first one is sought by halves.
             return (part, bisect.bisect_left(range(len(rows)), True, key=lambda row: not so(rows[:row + 1])))
     return None
+
+
+# --- spots, as the document tells of them ---
+
+
+def kept_names(rules, making):
+    terms = [term for whose, target, op, terms in rules if whose == making for term in (target, *terms)]
+    return sorted({term[1] for term in terms if term[0] == "kept"})
+
+
+def spots_due(rows, tree):
+    sorts, makings, rules, cap = rows
+    worths = {sort: downs + ups for sort, downs, ups in sorts}
+    found = []
+    for path, node in walk(tree):
+        names = worths[places(makings, node[0])[0]]
+        found += [(path, name) for name in (*names, *kept_names(rules, node[0]))]
+    return found
+
+
+def spot_due(path, term):
+    """The spot that a target or an operand of a rule of the node there names; None where it names none."""
+    if term[0] == "kept":
+        return (path, term[1])
+    if term[0] == "at":
+        return (path if term[1] == 0 else (*path, term[1]), term[2])
+    return None
+
+
+def rules_due(rows, tree):
+    """By each spot that has a rule the pair (path, rule)."""
+    found = {}
+    for path, node in walk(tree):
+        for rule in rows[2]:
+            if rule[0] == node[0]:
+                found[spot_due(path, rule[1])] = (path, rule)
+    return found
+
+
+def needs_due(rows, tree):
+    """By each spot the list of those that it needs."""
+    rules = rules_due(rows, tree)
+    found = {}
+    for spot in spots_due(rows, tree):
+        path, rule = rules.get(spot, ((), (None, None, None, ())))
+        named = [spot_due(path, term) for term in rule[3]]
+        found[spot] = [need for need in named if need is not None]
+    return found
+
+
+def reached(needs, start):
+    """All to which one comes from the start by one need or more."""
+    found, waiting = set(), list(needs[start])
+    while waiting:
+        spot = waiting.pop()
+        if spot not in found:
+            found.add(spot)
+            waiting += needs[spot]
+    return found
+
+
+def no_spots(rng, spots):
+    """Things that are no spots of a tree, though some are nearly."""
+    shown = {repr(spot) for spot in spots}
+    found = list(THINGS)
+    for thing in THINGS:
+        found += [(thing, rng.choice(spots)[1] if spots else "a"), (rng.choice(spots)[0] if spots else (), thing)]
+    for path, name in rng.sample(spots, min(6, len(spots))):
+        found += [
+            [path, name], (list(path), name), (path, [name]), (path, name, 0), (path,), (name, path), (path + (1,), name),
+            (path + (0,), name), (path + (3,), name), (path[:-1], name), (path, name + "a"), (path, name.upper()),
+            (path, None), (path, ("at", 0, name)), (path[:-1] + (True,), name), (path + (True,), name), ((path, name),),
+            (path[:-1] + (-1,), name), (path[::-1], name), (tuple(map(bool, path)), name), ("".join(map(str, path)), name),
+        ]
+    return [thing for thing in found if repr(thing) not in shown]

@@ -145,7 +145,8 @@ class Telling(unittest.TestCase):
     def test_targets_of_any_make(self):
         grammar = made(LETS)
         for target in THINGS + [("at", False, "val"), ("at", True, "env"), ["at", 0, "val"], ("at", 0, ["val"]),
-                                ("kept", "extra", 1), ["kept", "extra"], ("at", 0), ("at", 0, "val", 0)]:
+                                ("kept", "extra", 1), ["kept", "extra"], ("at", 0), ("at", 0, "val", 0),
+                                ("kept", ["extra"]), ("kept", ("extra",)), ("at", [0], "val"), ("at", -1, "val")]:
             self.assertIs(grammar.rule_for("let", target), None, target)
         self.assertIsNotNone(grammar.rule_for("let", ("at", 0, "val")))
         self.assertIsNotNone(grammar.rule_for("let", ("at", 1, "env")))

@@ -8,7 +8,7 @@ from helper import (
 )
 from threereckons.errors import BadRow
 from threereckons.grammar import Grammar
-from threereckons.gramtext import grammar_in
+from threereckons.gramtext import grammar_in, row_in
 
 NAME = "(?!own(?![a-z]))[a-z]{1,6}"
 NUMBER = "(?:0|[1-9][0-9]{0,5})"
@@ -219,6 +219,17 @@ class BadRows(unittest.TestCase):
                     blank = [""] * rng.choice([0, 0, 1, 2])
                     refused += self.due("\n".join(lines[:at] + blank + [other] + lines[at + 1:]))
         self.assertGreater(refused, 3000)
+
+    def test_single_rows_are_so_written_or_not(self):
+        """Whatever they name: what can't stand may be so written."""
+        rng = random.Random(46)
+        lines = LET_TEXT.split("\n") + ["cap 9", "cap 999999", "sort s /", "make m s a b c d", "rule m k copy", "rule m 2.x pick 1 2 3 4"]
+        for line in lines:
+            for row in [line] + self.spoilt_rows(rng, line):
+                words = row.split(" ")
+                fits = any(re.fullmatch(form, row) for kind, form in FORMS)
+                fits = fits and row != "cap 0" and (words[0] != "rule" or words[3] in PARTS)
+                self.assertEqual((row, row_in(row)[1] is not None), (row, fits))
 
     def test_rows_left_out_twice_and_exchanged(self):
         rng = random.Random(43)
