@@ -1,8 +1,13 @@
 """What several tests share: grammars and trees by chance, things of any make, and spoiling."""
 
 import bisect
+import itertools
 import random
 import re
+import unittest
+
+from threereckons.grammar import Grammar
+from threereckons.graphs import least_by_graph
 
 TOP = 999999
 WORDS = "a b c d e f g h up down leaf node val env abcdef zzzzzz at kept number cap sort make rule copy".split()
@@ -129,6 +134,12 @@ def rows_by_chance(rng, *, many_sorts=None, many_makings=None, cap=None, share=N
 def grammars_by_chance(seed, many, **told):
     rng = random.Random(seed)
     return [rows_by_chance(rng, **told) for step in range(many)]
+
+
+def shuffled(rng, rows):
+    """The same grammar, its rows in another order."""
+    sorts, makings, rules, cap = rows
+    return (*[rng.sample(part, len(part)) for part in (sorts, makings, rules)], cap)
 
 
 # A grammar written out: let binds what its first part is worth.
@@ -432,3 +443,283 @@ def no_spots(rng, spots):
             (path[:-1] + (-1,), name), (path[::-1], name), (tuple(map(bool, path)), name), ("".join(map(str, path)), name),
         ]
     return [thing for thing in found if repr(thing) not in shown]
+
+
+# --- worths, graphs and refusals, as the document tells of them ---
+
+
+LETS = (LET_SORTS, LET_MAKINGS, LET_RULES, 0)
+BOUND = 10 ** 6
+OPS = {
+    "copy": lambda a: a, "plus": lambda a, b: (a + b) % BOUND, "less": lambda a, b: (a - b) % BOUND,
+    "times": lambda a, b: a * b % BOUND, "over": lambda a, b: a // b if b else None,
+    "rest": lambda a, b: a % b if b else None, "least": min, "most": max,
+    "same": lambda a, b: int(a == b), "under": lambda a, b: int(a < b), "pick": lambda a, b, c: b if a else c,
+}
+
+
+def made(rows):
+    sorts, makings, rules, cap = rows
+    return Grammar(sorts, makings, rules, cap=cap)
+
+
+def worths_of(rows, making):
+    """The downs and ups of a making's sort."""
+    sort = places(rows[1], making)[0]
+    return [(downs, ups) for name, downs, ups in rows[0] if name == sort][0]
+
+
+class Due:
+    """What the document tells of a tree's spots, by its words."""
+
+    def __init__(self, rows, tree, given):
+        self.cap = rows[3]
+        self.spots = spots_due(rows, tree)
+        self.rules = rules_due(rows, tree)
+        self.needs = needs_due(rows, tree)
+        self.own = {path: node[1] for path, node in walk(tree)}
+        self.given = {((), down): number for down, number in given}
+        self.reach = {spot: reached(self.needs, spot) for spot in self.spots}
+        of_ring = {spot for spot in self.spots if spot in self.reach[spot]}
+        self.hang = {spot for spot in self.spots if spot in of_ring or self.reach[spot] & of_ring}
+        self.known = {}
+        for spot in self.spots:
+            if spot not in self.hang:
+                self.fill(spot)
+
+    def fill(self, start):
+        waiting = [start]
+        while waiting:
+            ahead = [need for need in self.needs[waiting[-1]] if need not in self.known]
+            if ahead:
+                waiting.append(ahead[0])
+            else:
+                spot = waiting.pop()
+                self.known[spot] = self.worth(spot)
+
+    def capped(self, number):
+        return min(number, self.cap) if self.cap and number is not None else number
+
+    def worth(self, spot):
+        if spot in self.given:
+            return self.capped(self.given[spot])
+        if spot not in self.rules:
+            return None
+        path, (making, target, op, terms) = self.rules[spot]
+        numbers = []
+        needed = iter(self.needs[spot])
+        for term in terms:
+            if term[0] in ("at", "kept"):
+                numbers.append(self.known[next(needed)])
+            else:
+                numbers.append(self.own[path] if term[0] == "own" else term[1])
+        if None in numbers:
+            return None
+        return self.capped(OPS[op](*map(self.capped, numbers)))
+
+    def ring_from(self, start):
+        been = set()
+
+        def gone(way):
+            been.add(way[-1])
+            for need in self.needs[way[-1]]:
+                if need in way:
+                    return way[way.index(need):]
+                if need not in been:
+                    found = gone(way + [need])
+                    if found:
+                        return found
+            return None
+
+        return gone([start])
+
+    def road(self, spot):
+        road = [spot]
+        while True:
+            lacking = [need for need in self.needs[road[-1]] if self.known[need] is None]
+            if not lacking:
+                return road
+            road.append(lacking[0])
+
+    def for_it(self, spot, kept):
+        """The spots with a rule that are to be reckoned for one."""
+        return [each for each in {spot} | self.reach[spot] if each in self.rules and each not in kept]
+
+
+def cases(seed, many, nodes=20, **told):
+    """(rows, tree, given) by chance."""
+    rng = random.Random(seed)
+    for rows in grammars_by_chance(seed + 1, many, **told):
+        for tree in trees_by_chance(rng, rows, 2, rng.choice([3, 8, nodes])):
+            downs, ups = worths_of(rows, tree[0])
+            given = [(down, number_by_chance(rng)) for down in downs if rng.random() < 0.8]
+            rng.shuffle(given)
+            yield rows, tree, given
+
+
+def sort_due(makings, thing):
+    """The sort of a thing that is a tree; None where it's none."""
+    if type(thing) is not tuple or len(thing) != 3 or type(thing[0]) is not str:
+        return None
+    forms = [(sort, parts) for making, sort, parts in makings if making == thing[0]]
+    if not forms or type(thing[1]) is not int or not 0 <= thing[1] <= TOP or type(thing[2]) is not tuple:
+        return None
+    sorts = tuple(sort_due(makings, part) for part in thing[2])
+    return forms[0][0] if sorts == forms[0][1] else None
+
+
+def graph_due(rows, tree):
+    needs = needs_due(rows, tree)
+    downs, ups = worths_of(rows, tree[0])
+    return tuple(sorted((down, up) for down in downs for up in ups if ((), down) in reached(needs, ((), up))))
+
+
+def has_ring(rows, tree):
+    needs = needs_due(rows, tree)
+    return any(spot in reached(needs, spot) for spot in needs)
+
+
+def leasts_due(rows):
+    """By (sort, graph) the fewest nodes and the least tree, made of lesser ones until none is less."""
+    found, grown = {}, True
+    while grown:
+        grown = False
+        for making, sort, parts in rows[1]:
+            ways = [[tree for (whose, graph), (many, tree) in found.items() if whose == part] for part in parts]
+            for inner in list(itertools.product(*ways)):
+                tree = (making, 0, inner)
+                pair = (sort, graph_due(rows, tree))
+                if pair not in found or (size_of(tree), tree) < found[pair]:
+                    found[pair] = (size_of(tree), tree)
+                    grown = True
+    return found
+
+
+def is_fit(rows):
+    """Whether graphs_of and what rests on it may be asked of a grammar."""
+    return all(many <= 60 for many, tree in least_by_graph(made(rows)).values())
+
+
+def fit_grammars(seed, many, **told):
+    return [rows for rows in grammars_by_chance(seed, many, **told) if is_fit(rows)]
+
+
+def small_trees(makings, sort, most):
+    """All trees of a sort whose nodes bear 0, of growing numbers of nodes, not too many in all."""
+    found, known = [], {}
+    for nodes in range(1, most + 1):
+        trees = all_trees(makings, sort, nodes, known)
+        if len(found) + len(trees) > 600:
+            return nodes - 1, found
+        found += trees
+    return most, found
+
+
+class PlansDue:
+    """Rows of orders made ahead, by the words of the document; choose tells which of those that may come next is taken."""
+
+    def __init__(self, rows):
+        self.rows = rows
+        self.leasts = leasts_due(rows)
+        self.worths = {sort: (downs, ups) for sort, downs, ups in rows[0]}
+        self.forms = {making: (sort, parts) for making, sort, parts in rows[1]}
+        self.graphs = {sort: [graph for whose, graph in self.leasts if whose == sort] for sort in self.worths}
+        self.ways = {pair: [] for pair in self.leasts}
+        for making, (sort, parts) in self.forms.items():
+            for graphs in itertools.product(*[self.graphs[part] for part in parts]):
+                inner = tuple(self.leasts[(part, graph)][1] for part, graph in zip(parts, graphs))
+                self.ways[(sort, graph_due(rows, (making, 0, inner)))].append((making, graphs))
+
+    def order_by(self, sort, graph, choose=min):
+        downs, ups = self.worths[sort]
+        order = []
+        while len(order) < len(downs + ups):
+            behind = {name: {down for down, up in graph if up == name} for name in downs + ups if name not in order}
+            order.append(choose(sorted(name for name in behind if behind[name] <= set(order))))
+        return tuple(order)
+
+    def all_steps(self, making):
+        sort, parts = self.forms[making]
+        found = [("kept", name) for name in kept_names(self.rows[2], making)]
+        for place, part in enumerate((sort, *parts)):
+            found += [("at", place, name) for name in sum(self.worths[part], ())]
+        return found
+
+    def comes_late(self, making, graphs, order, step, ahead):
+        """Whether a step may not stand behind just these."""
+        rules = [rule for rule in self.rows[2] if rule[:2] == (making, step)]
+        needs = [term for rule in rules for term in rule[3] if term[0] in ("at", "kept")]
+        if step[0] == "at" and step[1] == 0:
+            needs += [("at", 0, name) for name in order[:order.index(step[2])]]
+        elif step[0] == "at":
+            needs += [("at", step[1], down) for down, up in graphs[step[1] - 1] if up == step[2]]
+        return any(need not in ahead for need in needs)
+
+    def steps_by(self, making, graphs, order, choose=min):
+        steps, left = [], self.all_steps(making)
+        while left:
+            step = choose(sorted(step for step in left if not self.comes_late(making, graphs, order, step, steps)))
+            steps.append(step)
+            left.remove(step)
+        return tuple(steps)
+
+    def part_orders(self, row):
+        making, graphs, order, steps = row
+        for place, (part, graph) in enumerate(zip(self.forms[making][1], graphs), 1):
+            yield part, graph, tuple(step[2] for step in steps if step[0] == "at" and step[1] == place)
+
+    def closed(self, starts, choose=min):
+        """The rows of all (sort, graph, order) to start with, and all behind them."""
+        found, waiting, been = [], list(starts), set()
+        while waiting:
+            due = waiting.pop()
+            if due in been:
+                continue
+            been.add(due)
+            for making, graphs in self.ways[due[:2]]:
+                found.append((making, graphs, due[2], self.steps_by(making, graphs, due[2], choose)))
+                waiting += self.part_orders(found[-1])
+        return sorted(found)
+
+    def roots(self, choose=min):
+        return [(sort, graph, self.order_by(sort, graph, choose)) for sort, graph in self.leasts]
+
+    def is_row(self, row):
+        if type(row) is not tuple or len(row) != 4 or type(row[0]) is not str or row[0] not in self.forms:
+            return False
+        making, graphs, order, steps = row
+        sort, parts = self.forms[making]
+        if type(graphs) is not tuple or type(order) is not tuple or type(steps) is not tuple or len(graphs) != len(parts):
+            return False
+        # By what is shown 1 and True, and a list and a tuple, are unlike.
+        if any(repr(graph) not in map(repr, self.graphs[part]) for graph, part in zip(graphs, parts)):
+            return False
+        if sorted(map(repr, order)) != sorted(map(repr, sum(self.worths[sort], ()))):
+            return False
+        if sorted(map(repr, steps)) != sorted(map(repr, self.all_steps(making))):
+            return False
+        return not any(self.comes_late(making, graphs, order, step, steps[:at]) for at, step in enumerate(steps))
+
+    def so(self, thing):
+        """Whether a thing shows plans."""
+        if type(thing) is not list or not all(self.is_row(row) for row in thing):
+            return False
+        keys = {row[:3] for row in thing}
+        if len(keys) < len(thing):
+            return False
+
+        def stand(sort, graph, order):
+            return all((*way, order) in keys for way in self.ways[(sort, graph)])
+
+        for sort, graph in self.leasts:
+            if not any(stand(sort, graph, order) for order in itertools.permutations(sum(self.worths[sort], ()))):
+                return False
+        return all(stand(*due) for row in thing for due in self.part_orders(row))
+
+
+class Asking(unittest.TestCase):
+    def refused(self, kind, field, due, ask, *told, **more):
+        with self.assertRaises(kind) as caught:
+            ask(*told, **more)
+        self.assertIs(type(caught.exception), kind)
+        same(self, getattr(caught.exception, field), due)

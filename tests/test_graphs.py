@@ -3,14 +3,12 @@ import random
 import unittest
 
 from helper import (
-    LET_MAKINGS, LET_RULES, LET_SORTS, THINGS, all_trees, fewest, grammars_by_chance, needs_due, reached, same, size_of,
-    trees_by_chance, walk,
+    LETS, THINGS, fewest, grammars_by_chance, graph_due, made, same, size_of, small_trees, trees_by_chance, walk,
 )
 from threereckons.errors import NoName
 from threereckons.grammar import Grammar
 from threereckons.graphs import graph_by, graph_of, graphs_of
 
-LETS = (LET_SORTS, LET_MAKINGS, LET_RULES, 0)
 # Sort s of which each graph but one comes about, some of them by several trees.
 SHAPES = (
     [("s", ("d", "e"), ("u", "v")), ("t", (), ("w",))],
@@ -28,36 +26,9 @@ SHAPES = (
 )
 
 
-def made(rows):
-    sorts, makings, rules, cap = rows
-    return Grammar(sorts, makings, rules, cap=cap)
-
-
-def worths_of(rows, making):
-    sort = [sort for name, sort, parts in rows[1] if name == making][0]
-    return [(downs, ups) for name, downs, ups in rows[0] if name == sort][0]
-
-
-def graph_due(rows, tree):
-    needs = needs_due(rows, tree)
-    downs, ups = worths_of(rows, tree[0])
-    return tuple(sorted((down, up) for down in downs for up in ups if ((), down) in reached(needs, ((), up))))
-
-
 def all_graphs(downs, ups):
     pairs = sorted(itertools.product(downs, ups))
     return [graph for many in range(len(pairs) + 1) for graph in itertools.combinations(pairs, many)]
-
-
-def small_trees(makings, sort, most):
-    """All trees of a sort whose nodes bear 0, of growing numbers of nodes, not too many in all."""
-    found, known = [], {}
-    for nodes in range(1, most + 1):
-        trees = all_trees(makings, sort, nodes, known)
-        if len(found) + len(trees) > 600:
-            return nodes - 1, found
-        found += trees
-    return most, found
 
 
 class OfTrees(unittest.TestCase):

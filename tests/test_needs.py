@@ -2,20 +2,13 @@ import random
 import unittest
 
 from helper import (
-    LET_MAKINGS, LET_RULES, LET_SORTS, grammars_by_chance, needs_due, no_spots, rules_due, same, spots_due,
-    trees_by_chance,
+    LET_RULES, LETS, grammars_by_chance, made, needs_due, no_spots, rules_due, same, spots_due, trees_by_chance,
 )
 from threereckons.errors import NoSpot
 from threereckons.grammar import Grammar
 from threereckons.needs import needs_of, rule_of, spots_of
 
-LETS = (LET_SORTS, LET_MAKINGS, LET_RULES, 0)
 TREE = ("root", 1, (("let", 3, (("leaf", 4, ()), ("use", 0, ()))),))
-
-
-def made(rows):
-    sorts, makings, rules, cap = rows
-    return Grammar(sorts, makings, rules, cap=cap)
 
 
 class WrittenOut(unittest.TestCase):

@@ -2,7 +2,8 @@ import random
 import unittest
 
 from helper import (
-    LET_MAKINGS, LET_RULES, LET_SORTS, THINGS, TOP, grammars_by_chance, nested, same, spoilt, trees_by_chance, walk,
+    LET_MAKINGS, LET_RULES, LET_SORTS, THINGS, TOP, grammars_by_chance, nested, same, sort_due, spoilt, trees_by_chance,
+    walk,
 )
 from threereckons.errors import NoNode
 from threereckons.grammar import Grammar
@@ -14,17 +15,6 @@ USE = ("use", 0, ())
 TREE = ("root", 1, (("let", 3, (LEAF, ("let", TOP, (USE, LEAF)))),))
 CHAIN = Grammar([("s", (), ()), ("t", (), ())], [("s", "s", ("s",)), ("one", "s", ("t",)), ("end", "t", ()),
                                                  ("two", "s", ("t", "s"))], [])
-
-
-def sort_due(makings, thing):
-    """The sort of a thing that is a tree; None where it's none."""
-    if type(thing) is not tuple or len(thing) != 3 or type(thing[0]) is not str:
-        return None
-    forms = [(sort, parts) for making, sort, parts in makings if making == thing[0]]
-    if not forms or type(thing[1]) is not int or not 0 <= thing[1] <= TOP or type(thing[2]) is not tuple:
-        return None
-    sorts = tuple(sort_due(makings, part) for part in thing[2])
-    return forms[0][0] if sorts == forms[0][1] else None
 
 
 def chain(places, *, two=False):

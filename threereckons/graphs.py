@@ -94,3 +94,13 @@ def graphs_of(grammar, sort):
     grammar.worths_of(sort)
     least = least_by_graph(grammar)
     return sorted([(graph, least[(whose, graph)][1]) for whose, graph in least if whose == sort])
+
+
+def ways_by_graph(grammar, least):
+    """By each pair (sort, graph) that trees have, all (making, graphs of its parts) that come to it."""
+    ways = {pair: [] for pair in least}
+    for making, sort, parts in grammar.makings():
+        for way in choices_of(parts, least):
+            graphs = tuple([taken[1] for taken in way])
+            ways[(sort, graph_by(grammar, making, graphs))].append((making, graphs))
+    return ways

@@ -57,7 +57,7 @@ def rule_at(grammar, tree, spot):
 
 
 def spot_named(path, operand):
-    """The spot that an operand names, of a rule of the node at a path; None where it names none."""
+    """The spot that an operand or a target names, of a rule of the node at a path; None where it names none."""
     if operand[0] == "kept":
         return path, operand[1]
     if operand[0] != "at":
@@ -65,6 +65,12 @@ def spot_named(path, operand):
     if operand[1] == 0:
         return path, operand[2]
     return path + (operand[1],), operand[2]
+
+
+def spots_named(path, operands):
+    """The spots that operands name, in order, as often as they're named."""
+    named = [spot_named(path, operand) for operand in operands]
+    return [spot for spot in named if spot is not None]
 
 
 def rule_of(grammar, tree, spot):
@@ -79,5 +85,4 @@ def needs_of(grammar, tree, spot):
     if found is None:
         return []
     path, rule = found
-    named = [spot_named(path, operand) for operand in rule[3]]
-    return [need for need in named if need is not None]
+    return spots_named(path, rule[3])

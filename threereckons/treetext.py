@@ -1,11 +1,11 @@
 """Trees as texts: add:3(leaf:4,leaf)."""
 
 from threereckons.errors import BadText, NoTree
+from threereckons.limits import PLACES
 from threereckons.things import FIGURES, LETTERS, SIGNS, is_name
 from threereckons.trees import is_tree
 
 MOST_PARTS = 2
-MOST_PLACES = 30
 
 
 def tree_text(tree):
@@ -66,7 +66,7 @@ def node_from(text, at, deep):
     making, at = name_from(text, at)
     own, at = own_from(text, at)
     parts = ()
-    if text[at:at + 1] == "(" and deep < MOST_PLACES:
+    if text[at:at + 1] == "(" and deep < PLACES:
         parts, at = parts_from(text, at + 1, deep + 1)
     return (making, own, parts), at
 

@@ -1,10 +1,10 @@
 """What the spots of a tree are reckoned of, and going through them by needs."""
 
 from threereckons.errors import NoGiven, NoTree, Ring
-from threereckons.needs import rule_at, spot_named, spots_of
+from threereckons.needs import spot_named, spots_named, spots_of
 from threereckons.ops import reckoned
-from threereckons.things import is_number, is_tuple_of, is_worth
-from threereckons.trees import is_tree, part_at, sort_of
+from threereckons.things import is_tuple_of, is_worth
+from threereckons.trees import is_tree, sort_of, walk_of
 
 
 def is_given(grammar, tree, thing):
@@ -18,21 +18,15 @@ def is_given(grammar, tree, thing):
     return len(set([pair[0] for pair in thing])) == len(thing)
 
 
-def recipe_at(grammar, tree, spot):
-    """A spot's op and terms, each a number or a spot; None where it has no rule."""
-    found = rule_at(grammar, tree, spot)
-    if found is None:
-        return None
-    path, rule = found
-    terms = []
-    for operand in rule[3]:
-        if operand[0] == "own":
-            terms.append(part_at(tree, path)[1])
-        elif operand[0] == "number":
-            terms.append(operand[1])
-        else:
-            terms.append(spot_named(path, operand))
-    return rule[2], terms
+def recipes_of(grammar, tree):
+    """By each spot, in order, (path, op, operands): its rule, and the node it's of; None where it has none."""
+    recipes = {spot: None for spot in spots_of(grammar, tree)}
+    rules = grammar.rules()
+    for path, node in walk_of(tree):
+        for making, target, op, operands in rules:
+            if making == node[0]:
+                recipes[spot_named(path, target)] = (path, op, operands)
+    return recipes
 
 
 class Web:
@@ -48,7 +42,8 @@ class Web:
         if not is_given(grammar, tree, given):
             raise NoGiven(given)
         self.top = grammar.cap()
-        self.recipes = {spot: recipe_at(grammar, tree, spot) for spot in spots_of(grammar, tree)}
+        self.recipes = recipes_of(grammar, tree)
+        self.owns = {path: node[1] for path, node in walk_of(tree)}
         self.handed = {((), down): self.under_top(number) for down, number in given}
 
     def under_top(self, number):
@@ -61,8 +56,8 @@ class Web:
         """The spots that a spot needs, in order."""
         if not self.has_rule(spot):
             return []
-        op, terms = self.recipes[spot]
-        return [term for term in terms if not is_number(term)]
+        path, op, operands = self.recipes[spot]
+        return spots_named(path, operands)
 
     def way_from(self, start, found):
         """The spots not found that are needed for one, it too, each behind those that it needs."""
@@ -84,14 +79,22 @@ class Web:
                 way.append(need)
         return list(done)
 
+    def number_for(self, path, operand, found):
+        """The number that an operand tells, of a rule of the node at a path; None where it lacks."""
+        if operand[0] == "own":
+            return self.owns[path]
+        if operand[0] == "number":
+            return operand[1]
+        return found[spot_named(path, operand)]
+
     def worth_by(self, spot, found):
         """What a spot is worth by those found, all that it needs; None where it lacks."""
         if spot in self.handed:
             return self.handed[spot]
         if not self.has_rule(spot):
             return None
-        op, terms = self.recipes[spot]
-        numbers = [term if is_number(term) else found[term] for term in terms]
+        path, op, operands = self.recipes[spot]
+        numbers = [self.number_for(path, operand, found) for operand in operands]
         return None if None in numbers else reckoned(op, numbers, cap=self.top)
 
     def fill_for(self, spot, found):
