@@ -6,8 +6,11 @@ import random
 import re
 import unittest
 
+from threereckons.errors import NoGiven, NoName, NoNode, NoTree, Ring, Taken, TooMuch
 from threereckons.grammar import Grammar
+from threereckons.gramtext import grammar_in
 from threereckons.graphs import least_by_graph
+from threereckons.treetext import tree_in
 
 TOP = 999999
 WORDS = "a b c d e f g h up down leaf node val env abcdef zzzzzz at kept number cap sort make rule copy".split()
@@ -557,6 +560,41 @@ def cases(seed, many, nodes=20, **told):
             yield rows, tree, given
 
 
+def given_so(downs, given):
+    """Whether a thing can be given to a tree that has these downs."""
+    if type(given) is not list:
+        return type(given) is tuple and given == ()
+    seen = []
+    for pair in given:
+        if type(pair) is not tuple or len(pair) != 2 or type(pair[0]) is not str or pair[0] not in downs:
+            return False
+        if type(pair[1]) is not int or not 0 <= pair[1] <= TOP:
+            return False
+        seen.append(pair[0])
+    return len(set(seen)) == len(seen)
+
+
+def exchanged(tree, path, part):
+    """The tree with another part there, None of what is no node."""
+    if path == ():
+        return part
+    making, own, parts = tree
+    inner = list(parts)
+    inner[path[0] - 1] = exchanged(inner[path[0] - 1], path[1:], part)
+    return (making, own, tuple(inner))
+
+
+def anew_due(ahead, now, put):
+    """How many rules a deed reckons, by the words of [15]."""
+    many = 0
+    for spot, (path, rule) in now.rules.items():
+        was_put = put is not None and path[:len(put)] == put
+        other_own = not was_put and ("own",) in rule[3] and now.own[path] != ahead.own[path]
+        other_need = not was_put and any(now.known[need] != ahead.known[need] for need in now.needs[spot])
+        many += was_put or other_own or other_need
+    return many
+
+
 def sort_due(makings, thing):
     """The sort of a thing that is a tree; None where it's none."""
     if type(thing) is not tuple or len(thing) != 3 or type(thing[0]) is not str:
@@ -715,6 +753,127 @@ class PlansDue:
             if not any(stand(sort, graph, order) for order in itertools.permutations(sum(self.worths[sort], ()))):
                 return False
         return all(stand(*due) for row in thing for due in self.part_orders(row))
+
+
+def rows_of(grammar):
+    return (grammar.sorts(), grammar.makings(), grammar.rules(), grammar.cap())
+
+
+class ShopDue:
+    """What a Workshop must tell, by the words of the document, of trees that are reckoned anew each time."""
+
+    def __init__(self, limit=400):
+        self.limit = limit
+        # Pairs of grammars, rows by name, and of trees, (rows, tree, given, Due) by name.
+        self.states = [({}, {})]
+        self.total = 0
+        self.log = []
+        self.depth = 0
+
+    def grammars(self):
+        return self.states[-1][0]
+
+    def trees(self):
+        return self.states[-1][1]
+
+    def free(self, name):
+        if name in self.grammars() or name in self.trees():
+            raise Taken(name)
+
+    def called(self, name):
+        if name not in self.trees():
+            raise NoName(name)
+        return self.trees()[name]
+
+    def stand(self, grammars, trees, many):
+        self.states.append((grammars, trees))
+        self.total += many
+        return many
+
+    def node_at(self, tree, path):
+        found = {repr(each): node for each, node in walk(tree)}
+        if repr(path) not in found:
+            raise NoNode(path)
+        return found[repr(path)]
+
+    def lay(self, name, text):
+        self.free(name)
+        return self.stand({**self.grammars(), name: rows_of(grammar_in(text))}, self.trees(), 0)
+
+    def plant(self, name, grammar, text, given):
+        self.free(name)
+        if grammar not in self.grammars():
+            raise NoName(grammar)
+        rows = self.grammars()[grammar]
+        tree = tree_in(text)
+        if sort_due(rows[1], tree) is None or size_of(tree) > 60:
+            raise NoTree(text)
+        if not given_so(worths_of(rows, tree[0])[0], given):
+            raise NoGiven(given)
+        return self.grown(name, rows, tree, dict(given), None, None)
+
+    def grown(self, name, rows, tree, given, ahead, put):
+        """The end of a deed that reckons."""
+        due = Due(rows, tree, list(given.items()))
+        hanging = [spot for spot in due.spots if spot in due.hang]
+        if hanging:
+            raise Ring(due.ring_from(hanging[0]))
+        many = len(due.rules) if ahead is None else anew_due(ahead, due, put)
+        if many > self.limit:
+            raise TooMuch(many)
+        return self.stand(self.grammars(), {**self.trees(), name: (rows, tree, given, due)}, many)
+
+    def put(self, name, path, text):
+        rows, tree, given, due = self.called(name)
+        node = self.node_at(tree, path)
+        part = tree_in(text)
+        if sort_due(rows[1], part) != places(rows[1], node[0])[0]:
+            raise NoTree(text)
+        whole = exchanged(tree, path, part)
+        if size_of(whole) > 60 or max(len(each) for each, node in walk(whole)) > 30:
+            raise NoTree(part)
+        return self.grown(name, rows, whole, given, due, path)
+
+    def mark(self, name, path, own):
+        rows, tree, given, due = self.called(name)
+        making, number, parts = self.node_at(tree, path)
+        if type(own) is not int or not 0 <= own <= TOP:
+            raise NoTree(own)
+        return self.grown(name, rows, exchanged(tree, path, (making, own, parts)), given, due, None)
+
+    def give(self, name, down, number):
+        rows, tree, given, due = self.called(name)
+        if not given_so(worths_of(rows, tree[0])[0], [(down, 0 if number is None else number)]):
+            raise NoGiven((down, number))
+        kept = {each: given[each] for each in given if each != down}
+        return self.grown(name, rows, tree, kept if number is None else {**kept, down: number}, due, None)
+
+    def uproot(self, name):
+        self.called(name)
+        return self.stand(self.grammars(), {each: tree for each, tree in self.trees().items() if each != name}, 0)
+
+    def undo(self):
+        if len(self.states) == 1:
+            return False
+        self.states.pop()
+        return True
+
+    def run(self, steps, whole):
+        kept = list(self.states), self.total
+        self.depth += 1
+        self.log.append(("begin", self.depth))
+        told = []
+        try:
+            for word, *handed in steps:
+                told.append(getattr(self, word)(*handed))
+        except Exception:
+            if whole:
+                self.states, self.total = kept
+            raise
+        finally:
+            self.log.append(("end", self.depth))
+            self.depth -= 1
+        return told
 
 
 class Asking(unittest.TestCase):

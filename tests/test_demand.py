@@ -1,7 +1,9 @@
 import random
 import unittest
 
-from helper import LETS, THINGS, TOP, Asking, Due, cases, copied, made, no_spots, same, spoilt, spots_due, walk
+from helper import (
+    LETS, THINGS, TOP, Asking, Due, cases, copied, given_so, made, no_spots, same, spoilt, spots_due, walk,
+)
 from threereckons.demand import Demand, by_demand
 from threereckons.errors import Lacks, NoGiven, NoSpot, NoTree, Ring, TooMuch
 from threereckons.grammar import Grammar
@@ -260,18 +262,6 @@ class ByChance(Asking):
 
 
 class HandedIn(Asking):
-    def given_so(self, downs, given):
-        if type(given) is not list:
-            return type(given) is tuple and given == ()
-        seen = []
-        for pair in given:
-            if type(pair) is not tuple or len(pair) != 2 or type(pair[0]) is not str or pair[0] not in downs:
-                return False
-            if type(pair[1]) is not int or not 0 <= pair[1] <= TOP:
-                return False
-            seen.append(pair[0])
-        return len(set(seen)) == len(seen)
-
     def test_no_given(self):
         sorts = [("s", ("d", "e"), ("u",)), ("t", ("f",), ())]
         grammar = Grammar(sorts, [("m", "s", ("t",)), ("n", "t", ())], [("m", ("kept", "k"), "copy", (("own",),))])
@@ -284,7 +274,7 @@ class HandedIn(Asking):
         let = 0
         for given in things:
             before = repr(given)
-            if self.given_so(("d", "e"), given):
+            if given_so(("d", "e"), given):
                 let += 1
                 told = dict(given)
                 same(self, by_demand(grammar, tree, given=given)[:2], [((), "d", told.get("d")), ((), "e", told.get("e"))])

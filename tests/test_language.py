@@ -186,6 +186,19 @@ class Code(unittest.TestCase):
         for name, node in nodes(ast.ExceptHandler):
             self.assertIn(node.type.id, errors, (name, node.lineno))
 
+    def test_finally(self):
+        """Narrower than L6: assignments, -= of a number, append of what is simple, if of is None."""
+        allowed = (
+            ast.Assign, ast.AugAssign, ast.Expr, ast.If, ast.Compare, ast.BoolOp, ast.And, ast.Is, ast.IsNot, ast.Constant, ast.Name,
+            ast.Attribute, ast.Tuple, ast.Load, ast.Store, ast.Sub, ast.Call,
+        )
+        for name, node in nodes(ast.Try):
+            for row in node.finalbody:
+                for each in ast.walk(row):
+                    self.assertIsInstance(each, allowed, (name, row.lineno))
+                    if isinstance(each, ast.Call):
+                        self.assertEqual(each.func.attr, "append", (name, row.lineno))
+
     def test_locals(self):
         for name, tree in trees():
             taken = set(dir(builtins))

@@ -91,6 +91,12 @@ class Shown(Asking):
             if ring_ahead(made(rows)) is not None:
                 self.assertIs(shows_plans(made(rows), []), False)
 
+    def test_a_spot_that_needs_itself(self):
+        for terms in ((("kept", "k"),), (("own",),)):
+            rows = ([("s", (), ("u",))], [("z", "s", ())], [("z", ("kept", "k"), "copy", terms), ("z", U, "copy", (("kept", "k"),))], 4)
+            told = [("z", (), ("u",), (("kept", "k"), U))]
+            self.assertEqual(self.due(rows, told), terms == (("own",),))
+
     def test_what_plans_tell(self):
         rng = random.Random(152)
         for rows in [LETS, FREE, CHAIN, *calm(153, 150)]:

@@ -2,8 +2,8 @@ import random
 import unittest
 
 from helper import (
-    LETS, THINGS, TOP, Asking, Due, cases, copied, grammars_by_chance, made, no_spots, number_by_chance, places, same,
-    size_of, sort_due, spoilt, tree_by_chance, trees_by_chance, walk, worths_of,
+    LETS, THINGS, TOP, Asking, Due, anew_due, cases, copied, exchanged, grammars_by_chance, made, no_spots,
+    number_by_chance, places, same, size_of, sort_due, spoilt, tree_by_chance, trees_by_chance, walk, worths_of,
 )
 from threereckons.demand import by_demand
 from threereckons.errors import NoGiven, NoNode, NoSpot, NoTree, Ring
@@ -32,27 +32,6 @@ def wide(nodes):
     while len(trees) > 1:
         trees.append(("p", 0, (trees.pop(0), trees.pop(0))))
     return trees[0]
-
-
-def exchanged(tree, path, part):
-    """The tree with another part there, None of what is no node."""
-    if path == ():
-        return part
-    making, own, parts = tree
-    inner = list(parts)
-    inner[path[0] - 1] = exchanged(inner[path[0] - 1], path[1:], part)
-    return (making, own, tuple(inner))
-
-
-def anew_due(ahead, now, put):
-    """How many rules a deed reckons, by the words of [15]."""
-    many = 0
-    for spot, (path, rule) in now.rules.items():
-        was_put = put is not None and path[:len(put)] == put
-        other_own = not was_put and ("own",) in rule[3] and now.own[path] != ahead.own[path]
-        other_need = not was_put and any(now.known[need] != ahead.known[need] for need in now.needs[spot])
-        many += was_put or other_own or other_need
-    return many
 
 
 class Model:
